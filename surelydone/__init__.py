@@ -1,0 +1,1 @@
+"""Surelydone: what deeds reveal of other deeds."""

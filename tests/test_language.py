@@ -1,0 +1,144 @@
+"""Rules of LANGUAGE.md that can be seen without much knowledge of the program; the rule stands in each test's name."""
+
+import ast
+import builtins
+import pathlib
+import re
+import unittest
+
+FOLDER = pathlib.Path(__file__).resolve().parent.parent / "surelydone"
+
+ALLOWED_BUILTINS = set("""
+    len range enumerate zip min max sum abs sorted reversed int str bool list tuple dict set isinstance ord repr
+    any all divmod iter next property classmethod staticmethod super Exception ValueError TypeError KeyError
+    IndexError LookupError ZeroDivisionError ArithmeticError OverflowError RuntimeError NotImplementedError
+    AttributeError StopIteration NotImplemented
+""".split())
+
+ALLOWED_METHODS = set("""
+    __init__ __eq__ __repr__ __str__ __len__ __enter__ __exit__ __call__ __iter__ __lt__ __le__ __gt__ __ge__ __ne__
+    __add__ __radd__ __iadd__ __sub__ __rsub__ __isub__ __and__ __rand__ __iand__ __or__ __ror__ __ior__
+    __bool__ __contains__ __getitem__ __setitem__
+""".split())
+
+BARRED_WORDS = """
+    type typing typing_extensions enum Enum IntEnum StrEnum Flag IntFlag Generic Protocol ABC ABCMeta namedtuple
+    NamedTuple TypedDict TYPE_CHECKING abstractmethod
+""".split()
+
+INTERFACE = {
+    "errors": """DoneError BadState BadSteps BadHands BadDiligent BadWords BadStates BadMove BadRun TooMany
+                 NothingDone""",
+    "hands": "Hand Hand.__init__ Hand.ring Hand.__eq__",
+    "systems": """System System.__init__ System.__eq__ System.__add__ System.__radd__ System.moves System.behind
+                  System.able System.with_diligent System.started_at standings""",
+}
+
+
+def files():
+    return sorted(path for path in FOLDER.iterdir() if path.suffix == ".py")
+
+
+def trees():
+    return [(path, ast.parse(path.read_text(encoding="utf-8"))) for path in files()]
+
+
+def nodes(kind):
+    return [(path.name, node) for path, tree in trees() for node in ast.walk(tree) if isinstance(node, kind)]
+
+
+def defined_in(tree):
+    """The names of the functions, the classes and the methods that a file defines, and of its values."""
+    found = []
+    for node in tree.body:
+        if isinstance(node, (ast.FunctionDef, ast.ClassDef)):
+            found.append(node.name)
+        if isinstance(node, ast.ClassDef):
+            found += [f"{node.name}.{part.name}" for part in node.body if isinstance(part, ast.FunctionDef)]
+        if isinstance(node, ast.Assign):
+            found += [target.id for target in node.targets]
+    return found
+
+
+class Language(unittest.TestCase):
+    def test_l1_files(self):
+        for path in FOLDER.iterdir():
+            if path.name != "__pycache__":
+                self.assertRegex(path.name, r"\A[a-z][a-z0-9_]*\.py\Z|\A__init__\.py\Z")
+
+    def test_l2_l16_imports(self):
+        told = {path.stem: defined_in(tree) for path, tree in trees()}
+        self.assertEqual(nodes(ast.Import), [])
+        for file, node in nodes(ast.ImportFrom):
+            package, _, module = node.module.partition(".")
+            self.assertEqual((package, node.level), ("surelydone", 0), file)
+            for name in node.names:
+                self.assertIn(name.name, told[module], file)
+
+    def test_l7_no_float_and_no_division(self):
+        self.assertEqual(nodes(ast.Div), [])
+        for file, node in nodes(ast.Constant):
+            self.assertNotIsInstance(node.value, (float, complex), file)
+
+    def test_l8_builtins(self):
+        for file, node in nodes(ast.Name):
+            if node.id in dir(builtins):
+                self.assertIn(node.id, ALLOWED_BUILTINS, file)
+                self.assertIsInstance(node.ctx, ast.Load, file)
+
+    def test_l10_sizes(self):
+        for path in files():
+            lines = path.read_text(encoding="utf-8").splitlines()
+            self.assertLess(len(lines), 400, path.name)
+            self.assertLessEqual(max(len(line) for line in lines), 120, path.name)
+        for file, node in nodes(ast.FunctionDef):
+            self.assertLessEqual(node.end_lineno - node.lineno + 1, 40, f"{file} {node.name}")
+
+    def test_l12_names(self):
+        for file, node in nodes((ast.Name, ast.arg, ast.Attribute)):
+            name = node.id if isinstance(node, ast.Name) else node.arg if isinstance(node, ast.arg) else node.attr
+            if name != "__init__":
+                self.assertRegex(name, r"\A[A-Za-z]\w*\Z", file)
+        for file, node in nodes((ast.FunctionDef, ast.ClassDef)):
+            if node.name not in ALLOWED_METHODS:
+                self.assertRegex(node.name, r"\A[A-Za-z]\w*\Z", file)
+
+    def test_l14_characters(self):
+        for path in files():
+            self.assertRegex(path.read_bytes(), rb"\A[ -~\n]*\Z", path.name)
+
+    def test_l16_interface(self):
+        for module, names in INTERFACE.items():
+            found = defined_in(ast.parse((FOLDER / f"{module}.py").read_text(encoding="utf-8")))
+            for name in names.split():
+                self.assertIn(name, found)
+
+    def test_l17_words(self):
+        for path in files():
+            text = path.read_text(encoding="utf-8")
+            for word in BARRED_WORDS:
+                self.assertIsNone(re.search(rf"\b{word}\b", text), f"{path.name} {word}")
+            self.assertIsNone(re.search("dataclass|overload|contextmanager", text), path.name)
+
+    def test_l18_no_method_is_an_attribute_elsewhere(self):
+        methods = {part.name for _, node in nodes(ast.ClassDef) for part in node.body
+                   if isinstance(part, ast.FunctionDef)}
+        assigned = {node.attr for _, node in nodes(ast.Attribute) if isinstance(node.ctx, ast.Store)}
+        self.assertEqual(methods & assigned, set())
+
+    def test_l19_raise(self):
+        for file, node in nodes(ast.Raise):
+            if node.exc is not None:
+                self.assertIsInstance(node.exc, ast.Call, file)
+                self.assertIsInstance(node.exc.func, ast.Name, file)
+
+    def test_l20_is(self):
+        for file, node in nodes(ast.Compare):
+            for sign, right in zip(node.ops, node.comparators):
+                if isinstance(sign, (ast.Is, ast.IsNot)):
+                    self.assertIsInstance(right, ast.Constant, file)
+                    self.assertIsInstance(right.value, (bool, type(None)), file)
+
+
+if __name__ == "__main__":
+    unittest.main()

@@ -1,0 +1,105 @@
+"""Points 2 to 4: what integers, states, names and rows are, and that equal calls give equal values."""
+
+import sys
+import unittest
+
+from surelydone.errors import BadDiligent, BadMove, BadState, BadStates, BadSteps, BadWords
+from surelydone.hands import Hand
+from surelydone.kinds import is_name, is_row, is_state, is_whole
+from surelydone.systems import System, standings
+from tests.helpers import (
+    Checks, bad_names, deep_values, door, guard, nested, other_values, rows_that_are_wrong_items,
+)
+
+
+class Kinds(unittest.TestCase):
+    def test_integers(self):
+        for value in (0, 1, -1, 99, 10 ** 30):
+            self.assertIs(is_whole(value), True)
+        for value in other_values() + rows_that_are_wrong_items():
+            self.assertIs(is_whole(value), False)
+
+    def test_states(self):
+        self.assertEqual([value for value in range(-3, 105) if is_state(value)], list(range(100)))
+        for value in other_values() + rows_that_are_wrong_items():
+            self.assertIs(is_state(value), False)
+
+    def test_names(self):
+        for value in ("a", "z", "az", "abcdefghijkl", "mnopqrstuvwx", "yz", "a" * 12):
+            self.assertIs(is_name(value), True)
+        for value in bad_names():
+            self.assertIs(is_name(value), False)
+
+    def test_rows(self):
+        for value in rows_that_are_wrong_items():
+            self.assertIs(is_row(value), True)
+        for value in other_values() + [0, 1]:
+            self.assertIs(is_row(value), False)
+
+
+class Deep(Checks):
+    """Arguments that are nested up to 500 deep raise the errors of the document and no other ones."""
+
+    def check_in_little_room(self, check):
+        """Check with no more calls left than a deep argument of a caller with a few calls would leave."""
+        limit = sys.getrecursionlimit()
+        try:
+            sys.setrecursionlimit(limit - 400)
+            check()
+        finally:
+            sys.setrecursionlimit(limit)
+
+    def check_everywhere(self):
+        system = System([door(), guard()])
+        values = deep_values() + [nested(kind, 500) for kind in (list, tuple, dict)]
+        for deep in values:
+            self.check_error(BadState, deep, Hand, deep, deep)
+            self.check_error(BadSteps, 0, Hand, 0, [deep])
+            self.check_error(BadSteps, 0, Hand, 0, [(deep, deep, deep)])
+            self.check_error(BadSteps, 0, Hand, 0, [(0, deep, 0)])
+            self.check_error(BadWords, deep, Hand.ring, [deep])
+            self.check_error(BadDiligent, deep, System, [door()], [0, deep])
+            self.check_error(BadDiligent, deep, system.with_diligent, (deep, deep))
+            for states in (deep, (deep, 0), (0, deep)):
+                self.check_error(BadStates, states, system.moves, states)
+                self.check_error(BadStates, states, system.able, states)
+                self.check_error(BadStates, states, system.started_at, states)
+                self.check_error(BadStates, states, system.behind, states, deep)
+            for move in (deep, ("rest", deep), (deep, (None, 1)), ("rest", (None, deep)), ("rest", (deep, 1))):
+                self.check_error(BadMove, move, system.behind, (0, 0), move)
+            self.assertFalse(system == deep)
+            self.assertTrue(deep != door())
+
+    def test_errors_of_deep_values(self):
+        self.check_everywhere()
+
+    def test_errors_of_deep_values_in_little_room(self):
+        self.check_in_little_room(self.check_everywhere)
+
+
+class Again(unittest.TestCase):
+    def test_equal_calls_give_equal_values(self):
+        system = System([door(), guard()], [1])
+        for states in ((0, 0), (1, 0)):
+            self.assertEqual(system.moves(states), system.moves(tuple(list(states))))
+            self.assertEqual(system.able(states), system.able(states))
+            self.assertEqual(system.started_at(states), system.started_at(states))
+        self.assertEqual(standings(system), standings(system))
+        self.assertEqual(system + guard(), System([door(), guard()], [1]) + guard())
+
+    def test_a_call_that_raises_changes_nothing(self):
+        system, hand = System([door(), guard()], [1]), door()
+        for call, passed in [
+            (system.moves, (0,)), (system.able, 5), (system.started_at, (9, 9)), (system.with_diligent, [2]),
+            (lambda value: system + value, 5), (lambda value: value + system, System([door()] * 3)),
+            (lambda value: system.behind((0, 0), value), ("open", (1, 0))), (hand.ring, []),
+        ]:
+            with self.assertRaises(ValueError):
+                call(passed)
+            self.assertEqual(system, System([door(), guard()], [1]))
+            self.assertEqual(system.words, ("ask", "open", "rest"))
+            self.assertEqual(hand, door())
+
+
+if __name__ == "__main__":
+    unittest.main()
