@@ -2,6 +2,7 @@
 
 import unittest
 
+from surelydone.deeds import Deeds
 from surelydone.errors import DoneError
 from surelydone.hands import Hand
 from surelydone.systems import System
@@ -44,7 +45,7 @@ def other_values():
         None, True, False, 0.0, 1.0, 1.5, float("nan"), 1j, "", "a", "ask", "ASK", b"ask", bytearray(b"a"),
         {}, {0: 1}, set(), {1}, frozenset(), range(2), slice(1), ..., NotImplemented, object(), int, len,
         lambda: 0, iter([0]), (at for at in range(2)), memoryview(b"a"), {0: 0}.keys(), ValueError("a"),
-        nested(dict, 450), door(), System([door()]),
+        nested(dict, 450), door(), System([door()]), Deeds(), Deeds(["ask"]),
     ]
 
 

@@ -1,9 +1,10 @@
-"""Point 40: the worked examples, word for word, and the example of point 11."""
+"""Point 40: the worked examples, word for word, and the examples of points 11 and 24."""
 
 import re
 import unittest
 
 from surelydone.hands import Hand
+from surelydone.reveals import is_lasso, is_table, lasso, reveals, table
 from surelydone.systems import System, standings
 
 SESSIONS = '''
@@ -51,6 +52,84 @@ raises BadMove(('open', (1, 0)))
 >>> both = System([door, guard])
 >>> standings(both)
 [(0, 0), (1, 0)]
+
+>>> from surelydone.deeds import Deeds
+>>> (["open", "ask"] - Deeds(["ask", "rest"])).names()
+['open']
+
+>>> from surelydone.hands import Hand
+>>> from surelydone.systems import System
+>>> door = Hand(0, [(0, "ask", 1), (1, "open", 0)])
+>>> guard = Hand(0, [(0, "open", 0), (0, "rest", 0)])
+>>> from surelydone.runs import words_of
+>>> both = System([door, guard])
+>>> words_of(both, (("ask", (0, None)), ("open", (1, 0))))
+('ask', 'open')
+
+>>> from surelydone.hands import Hand
+>>> from surelydone.systems import System
+>>> door = Hand(0, [(0, "ask", 1), (1, "open", 0)])
+>>> guard = Hand(0, [(0, "open", 0), (0, "rest", 0)])
+>>> from surelydone.runs import end_of
+>>> both = System([door, guard])
+>>> end_of(both, (("ask", (0, None)), ("ask", (0, None))))
+raises BadRun(1)
+
+>>> from surelydone.hands import Hand
+>>> from surelydone.systems import System
+>>> door = Hand(0, [(0, "ask", 1), (1, "open", 0)])
+>>> guard = Hand(0, [(0, "open", 0), (0, "rest", 0)])
+>>> from surelydone.runs import is_fair
+>>> both = System([door, guard])
+>>> is_fair(both, (("ask", (0, None)),), (("rest", (None, 1)),))
+False
+
+>>> from surelydone.hands import Hand
+>>> from surelydone.systems import System
+>>> door = Hand(0, [(0, "ask", 1), (1, "open", 0)])
+>>> guard = Hand(0, [(0, "open", 0), (0, "rest", 0)])
+>>> from surelydone.runs import is_fair
+>>> lazy = System([door, guard], [1])
+>>> is_fair(lazy, (("ask", (0, None)),), (("rest", (None, 1)),))
+True
+
+>>> from surelydone.hands import Hand
+>>> from surelydone.systems import System
+>>> door = Hand(0, [(0, "ask", 1), (1, "open", 0)])
+>>> guard = Hand(0, [(0, "open", 0), (0, "rest", 0)])
+>>> from surelydone.reveals import reveals
+>>> both = System([door, guard])
+>>> reveals(both, seen=["ask"], wanted=["open"])
+True
+
+>>> from surelydone.hands import Hand
+>>> from surelydone.systems import System
+>>> door = Hand(0, [(0, "ask", 1), (1, "open", 0)])
+>>> guard = Hand(0, [(0, "open", 0), (0, "rest", 0)])
+>>> from surelydone.reveals import reveals
+>>> lazy = System([door, guard], [1])
+>>> reveals(lazy, seen=["ask"], wanted=["open"])
+False
+
+>>> from surelydone.hands import Hand
+>>> from surelydone.systems import System
+>>> door = Hand(0, [(0, "ask", 1), (1, "open", 0)])
+>>> guard = Hand(0, [(0, "open", 0), (0, "rest", 0)])
+>>> from surelydone.reveals import is_table
+>>> both = System([door, guard])
+>>> thing = ([((0, 0), (False,))], {((1, 0), (True,)): (0, 0)})
+>>> is_table(both, thing, seen=["ask"], wanted=["open"])
+True
+
+>>> from surelydone.hands import Hand
+>>> from surelydone.systems import System
+>>> door = Hand(0, [(0, "ask", 1), (1, "open", 0)])
+>>> guard = Hand(0, [(0, "open", 0), (0, "rest", 0)])
+>>> from surelydone.reveals import is_lasso
+>>> lazy = System([door, guard], [1])
+>>> thing = ((("ask", (0, None)),), (("rest", (None, 1)),))
+>>> is_lasso(lazy, thing, seen=["ask"], wanted=["open"])
+True
 '''
 
 
@@ -69,7 +148,7 @@ def told_by(session):
 class Examples(unittest.TestCase):
     def test_sessions(self):
         sessions = re.split(r"\n\n", SESSIONS.strip())
-        self.assertEqual(len(sessions), 7)
+        self.assertEqual(len(sessions), 16)
         for session in sessions:
             expected = session.splitlines()[-1]
             with self.subTest(session):
@@ -89,6 +168,22 @@ class Examples(unittest.TestCase):
             self.assertEqual(system.able((1, 0)), [0, 1])
         self.assertEqual(both.diligent, (0, 1))
         self.assertEqual(lazy.diligent, (1,))
+
+    def test_what_ask_reveals(self):
+        door = Hand(0, [(0, "ask", 1), (1, "open", 0)])
+        guard = Hand(0, [(0, "open", 0), (0, "rest", 0)])
+        both = System([door, guard])
+        lazy = System([door, guard], [1])
+        self.assertIs(reveals(both, seen=["ask"], wanted=["open"]), True)
+        ahead, ranks = table(both, seen=["ask"], wanted=["open"])
+        self.assertEqual(ahead, [((0, 0), (False,))])
+        self.assertEqual({key: hand for key, (rank, hand) in ranks.items()}, {((1, 0), (True,)): 0})
+        thing = ([((0, 0), (False,))], {((1, 0), (True,)): (0, 0)})
+        self.assertIs(is_table(both, thing, seen=["ask"], wanted=["open"]), True)
+        self.assertIs(reveals(lazy, seen=["ask"], wanted=["open"]), False)
+        thing = ((("ask", (0, None)),), (("rest", (None, 1)),))
+        self.assertIs(is_lasso(lazy, thing, seen=["ask"], wanted=["open"]), True)
+        self.assertIs(is_lasso(lazy, lasso(lazy, seen=["ask"], wanted=["open"]), seen=["ask"], wanted=["open"]), True)
 
 
 if __name__ == "__main__":

@@ -6,20 +6,11 @@ from surelydone.errors import BadHands, TooMany
 from surelydone.hands import Hand
 from surelydone.systems import System, standings
 from tests.helpers import Checks, door, guard, names, other_values, rows_that_are_wrong_items
+from tests.samples import exactly_1000, exactly_1001, ring_of, widest
 
 
 def plus(one, other):
     return one + other
-
-
-def ring_of(word, many):
-    """A hand with so many reached states and one word."""
-    return Hand.ring([word] * many)
-
-
-def with_last(hand, words):
-    """The hand with one more state, to which each of these words leads from the start and nothing from there."""
-    return Hand(0, list(hand.steps) + [(0, word, 90) for word in words])
 
 
 class Plus(Checks):
@@ -138,17 +129,12 @@ class Standings(Checks):
     def test_more_than_1000(self):
         wide = System([ring_of("a", 8), ring_of("b", 8), ring_of("c", 8), ring_of("d", 2)])
         self.check_error(TooMany, 1000, standings, wide)
-        self.check_error(TooMany, 1000, standings, System([ring_of(word, 8) for word in "abcd"]))
+        self.check_error(TooMany, 1000, standings, widest())
 
     def test_1000_and_1001(self):
-        rings = [ring_of("a", 7), ring_of("b", 7), ring_of("c", 5), ring_of("d", 4)]
-        # The word y leads two hands to where they stay: 7 * 7 * 5 * 4 + 5 * 4 standings.
-        exact = System([with_last(rings[0], "y"), with_last(rings[1], "y"), rings[2], rings[3]])
-        self.assertEqual(len(standings(exact)), 1000)
-        # The word z leads all four hands to where they stay: one more.
-        more = System([with_last(ring, words) for ring, words in zip(rings, ["yz", "yz", "z", "z"])])
-        self.check_error(TooMany, 1000, standings, more)
-        self.assertEqual(len(standings(more.started_at((90, 90, 0, 0)))), 20)
+        self.assertEqual(len(standings(exactly_1000())), 1000)
+        self.check_error(TooMany, 1000, standings, exactly_1001())
+        self.assertEqual(len(standings(exactly_1001().started_at((90, 90, 0, 0)))), 20)
 
     def test_many_moves_at_each_standing(self):
         steps = [(state, "a", (state + by) % 5) for state in range(5) for by in range(4)]

@@ -2,6 +2,7 @@
 
 import ast
 import builtins
+import functools
 import pathlib
 import re
 import unittest
@@ -14,6 +15,17 @@ ALLOWED_BUILTINS = set("""
     IndexError LookupError ZeroDivisionError ArithmeticError OverflowError RuntimeError NotImplementedError
     AttributeError StopIteration NotImplemented
 """.split())
+
+SIGNS = """
+    __add__ __radd__ __iadd__ __sub__ __rsub__ __isub__ __and__ __rand__ __iand__ __or__ __ror__ __ior__ __contains__
+""".split()
+
+BUILTIN_METHODS = set("""
+    append clear copy count endswith extend find get index insert items join keys pop remove replace reverse
+    setdefault split startswith strip update values
+""".split())
+
+CHANGING_METHODS = "append clear extend insert pop remove reverse setdefault update sort add discard".split()
 
 ALLOWED_METHODS = set("""
     __init__ __eq__ __repr__ __str__ __len__ __enter__ __exit__ __call__ __iter__ __lt__ __le__ __gt__ __ge__ __ne__
@@ -32,6 +44,11 @@ INTERFACE = {
     "hands": "Hand Hand.__init__ Hand.ring Hand.__eq__",
     "systems": """System System.__init__ System.__eq__ System.__add__ System.__radd__ System.moves System.behind
                   System.able System.with_diligent System.started_at standings""",
+    "deeds": """Deeds Deeds.__init__ Deeds.__or__ Deeds.__ror__ Deeds.__ior__ Deeds.__and__ Deeds.__rand__
+                Deeds.__iand__ Deeds.__sub__ Deeds.__rsub__ Deeds.__isub__ Deeds.__eq__ Deeds.__contains__
+                Deeds.__len__ Deeds.__bool__ Deeds.names Deeds.within""",
+    "runs": "end_of words_of done_in passed is_fair fair_run",
+    "reveals": "reveals table is_table lasso is_lasso",
 }
 
 
@@ -39,12 +56,27 @@ def files():
     return sorted(path for path in FOLDER.iterdir() if path.suffix == ".py")
 
 
+@functools.cache
 def trees():
     return [(path, ast.parse(path.read_text(encoding="utf-8"))) for path in files()]
 
 
 def nodes(kind):
     return [(path.name, node) for path, tree in trees() for node in ast.walk(tree) if isinstance(node, kind)]
+
+
+def inside(kind, outer):
+    """The nodes of a kind that stand somewhere in another node."""
+    return [node for node in ast.walk(outer) if isinstance(node, kind)]
+
+
+def own_imports(tree):
+    return [node for node in tree.body if isinstance(node, ast.ImportFrom)]
+
+
+def generators():
+    """The names of the functions that yield."""
+    return {node.name for _, node in nodes(ast.FunctionDef) if inside((ast.Yield, ast.YieldFrom), node)}
 
 
 def defined_in(tree):
@@ -74,6 +106,35 @@ class Language(unittest.TestCase):
             self.assertEqual((package, node.level), ("surelydone", 0), file)
             for name in node.names:
                 self.assertIn(name.name, told[module], file)
+
+    def test_l4_parameters(self):
+        for file, node in nodes(ast.FunctionDef):
+            self.assertEqual(node.args.posonlyargs, [], file)
+            for default in node.args.defaults + [part for part in node.args.kw_defaults if part]:
+                self.assertIsInstance(default, (ast.Constant, ast.Tuple), file)
+        for file, node in nodes(ast.Lambda):
+            self.assertEqual((node.args.kwonlyargs, node.args.vararg, node.args.kwarg), ([], None, None), file)
+
+    def test_l5_operators(self):
+        for file, node in nodes(ast.FunctionDef):
+            if node.name in SIGNS:
+                self.assertEqual(len(node.args.args), 2, f"{file} {node.name}")
+                self.assertEqual((node.args.defaults, node.args.kwonlyargs), ([], []), f"{file} {node.name}")
+            if node.name in SIGNS and not node.name.startswith("__i"):
+                self.assertEqual(inside((ast.Assign, ast.AugAssign, ast.Delete), node)[1:], [], node.name)
+                for part in inside(ast.Assign, node):
+                    self.assertIsInstance(part.targets[0], ast.Name, node.name)
+                for part in inside(ast.Attribute, node):
+                    self.assertNotIn(part.attr, CHANGING_METHODS, node.name)
+
+    def test_l5_l24_no_signed_assignment_of_more_than_numbers(self):
+        for file, node in nodes(ast.AugAssign):
+            self.assertIsInstance(node.target, ast.Name, file)
+            self.assertIsInstance(node.op, ast.Add, file)
+            self.assertIsInstance(node.value, ast.Constant, file)
+
+    def test_l7_no_generator_expression(self):
+        self.assertEqual(nodes(ast.GeneratorExp), [])
 
     def test_l7_no_float_and_no_division(self):
         self.assertEqual(nodes(ast.Div), [])
@@ -107,6 +168,23 @@ class Language(unittest.TestCase):
         for path in files():
             self.assertRegex(path.read_bytes(), rb"\A[ -~\n]*\Z", path.name)
 
+    def test_l15_no_name_of_an_import_or_a_class_inside(self):
+        for path, tree in trees():
+            taken = {name.name for node in own_imports(tree) for name in node.names}
+            taken |= {node.name for node in tree.body if isinstance(node, ast.ClassDef)}
+            stored = {node.id for node in inside(ast.Name, tree) if isinstance(node.ctx, ast.Store)}
+            stored |= {node.arg for node in inside(ast.arg, tree)}
+            self.assertEqual(taken & stored, set(), path.name)
+            self.assertEqual(len(defined_in(tree)), len(set(defined_in(tree))), path.name)
+
+    def test_l16_no_two_files_import_from_each_other(self):
+        told = {path.stem: {node.module.partition(".")[2] for node in own_imports(tree)} for path, tree in trees()}
+        while told:
+            last = [file for file, needed in told.items() if not needed & set(told)]
+            self.assertNotEqual(last, [], told)
+            for file in last:
+                del told[file]
+
     def test_l16_interface(self):
         for module, names in INTERFACE.items():
             found = defined_in(ast.parse((FOLDER / f"{module}.py").read_text(encoding="utf-8")))
@@ -131,6 +209,35 @@ class Language(unittest.TestCase):
             if node.exc is not None:
                 self.assertIsInstance(node.exc, ast.Call, file)
                 self.assertIsInstance(node.exc.func, ast.Name, file)
+
+    def test_l19_only_own_errors_are_caught(self):
+        for file, node in nodes(ast.ExceptHandler):
+            self.assertIsInstance(node.type, ast.Name, file)
+            self.assertIn(node.type.id, INTERFACE["errors"].split(), file)
+
+    def test_l22_keywords_of_calls(self):
+        for file, node in nodes(ast.Call):
+            self.assertEqual([word.arg for word in node.keywords], [], file)
+
+    def test_l23_a_generator_is_not_a_value(self):
+        found = generators()
+        self.assertEqual(found, {"passed"})
+        for file, node in nodes(ast.Name):
+            self.assertNotIn(node.id, found, file)
+
+    def test_l24_sets_are_sorted_or_asked_on_the_spot(self):
+        sets = [node for _, node in nodes((ast.Set, ast.SetComp))]
+        sets += [node for _, node in nodes(ast.Call) if isinstance(node.func, ast.Name) and node.func.id == "set"]
+        placed = [part for _, node in nodes(ast.Call) if isinstance(node.func, ast.Name)
+                  and node.func.id in ("sorted", "len") for part in node.args]
+        for node in sets:
+            self.assertIn(node, placed, ast.unparse(node))
+
+    def test_l25_methods(self):
+        own = {part.name for _, node in nodes(ast.ClassDef) for part in node.body if isinstance(part, ast.FunctionDef)}
+        for file, node in nodes(ast.Call):
+            if isinstance(node.func, ast.Attribute):
+                self.assertIn(node.func.attr, own | BUILTIN_METHODS, file)
 
     def test_l20_is(self):
         for file, node in nodes(ast.Compare):

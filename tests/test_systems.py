@@ -7,55 +7,8 @@ from surelydone.errors import BadDiligent, BadHands, BadMove, BadStates, TooMany
 from surelydone.hands import Hand
 from surelydone.systems import System, standings
 from tests.helpers import Checks, door, guard, names, other_values, rows_that_are_wrong_items
-
-
-def both():
-    return System([door(), guard()])
-
-
-def stuck():
-    """Two hands share the word open, and the second one can never do it."""
-    return System([door(), Hand(0, [(0, "rest", 0), (1, "open", 0)])])
-
-
-def crowd():
-    """Three hands with several steps for the same word, in mixed order, and a state that runs do not meet."""
-    one = Hand(0, [(0, "b", 1), (0, "a", 0), (1, "c", 2), (0, "b", 0), (2, "b", 0), (0, "b", 2)])
-    other = Hand(5, [(5, "b", 5), (5, "b", 6), (6, "d", 5), (6, "b", 6), (5, "a", 6), (5, "a", 5)])
-    third = Hand(1, [(1, "e", 2), (2, "d", 1), (7, "f", 1), (1, "e", 1)])
-    return System([one, other, third], [2, 0])
-
-
-def moves_by_the_words_of_the_document(system, states):
-    """Try all numbers for each word, as point 10 describes a move."""
-    found = []
-    for word in sorted(system.words):
-        rows = [range(len(hand.steps)) if word in hand.words else [None] for hand in system.hands]
-        for numbers in itertools.product(*rows):
-            fits = [
-                number is None or (hand.steps[number][0], hand.steps[number][1]) == (state, word)
-                for hand, state, number in zip(system.hands, states, numbers)
-            ]
-            if all(fits):
-                found.append((word, numbers))
-    return found
-
-
-def shapes():
-    """Some small systems of every kind."""
-    hands = [
-        door(), guard(), Hand.ring(["a", "a", "open"]), Hand(3, [(3, "ask", 4), (3, "rest", 3), (3, "ask", 3)]),
-        Hand(0, [(0, "open", 1), (2, "rest", 0)]),
-        Hand(1, [(1, "rest", 0), (0, "rest", 1), (0, "rest", 0), (0, "a", 1)]),
-    ]
-    for many in (1, 2, 3):
-        for chosen in itertools.product(hands, repeat=many):
-            yield System(list(chosen), [0])
-
-
-def all_standings(system):
-    """All standings, also those that runs do not meet."""
-    return list(itertools.product(*[hand.states for hand in system.hands]))
+from tests.oracle import moves_at
+from tests.samples import all_standings, both, crowd, shapes, stuck
 
 
 class Makes(Checks):
@@ -198,7 +151,7 @@ class Moves(Checks):
     def test_all_moves_of_many_systems(self):
         for system in shapes():
             for states in all_standings(system):
-                self.assertEqual(system.moves(states), moves_by_the_words_of_the_document(system, states))
+                self.assertEqual(system.moves(states), moves_at(system, states))
 
     def test_list_belongs_to_the_caller(self):
         system = both()
@@ -320,7 +273,7 @@ class Able(Checks):
     def test_all_of_many_systems(self):
         for system in shapes():
             for states in all_standings(system):
-                taken = [numbers for word, numbers in moves_by_the_words_of_the_document(system, states)]
+                taken = [numbers for word, numbers in moves_at(system, states)]
                 able = [at for at in range(len(system.hands)) if any(numbers[at] is not None for numbers in taken)]
                 self.assertEqual(system.able(states), able)
 

@@ -3,9 +3,12 @@
 import sys
 import unittest
 
-from surelydone.errors import BadDiligent, BadMove, BadState, BadStates, BadSteps, BadWords
+from surelydone.deeds import Deeds
+from surelydone.errors import BadDiligent, BadMove, BadRun, BadState, BadStates, BadSteps, BadWords
 from surelydone.hands import Hand
 from surelydone.kinds import is_name, is_row, is_state, is_whole
+from surelydone.reveals import is_lasso, is_table, lasso, reveals, table
+from surelydone.runs import done_in, end_of, fair_run, is_fair, passed, words_of
 from surelydone.systems import System, standings
 from tests.helpers import (
     Checks, bad_names, deep_values, door, guard, nested, other_values, rows_that_are_wrong_items,
@@ -70,11 +73,42 @@ class Deep(Checks):
             self.assertFalse(system == deep)
             self.assertTrue(deep != door())
 
+    def check_deeds(self):
+        deeds = Deeds(["ask"])
+        for deep in deep_values() + [nested(kind, 500) for kind in (list, tuple, dict)]:
+            # A row is looked into; its one item is no name.
+            told = deep if isinstance(deep, dict) else deep[0]
+            for call in (Deeds, deeds.within, lambda row: deeds | row, lambda row: row & deeds, lambda row: row - deeds):
+                self.check_error(BadWords, told, call, deep)
+                self.check_error(BadWords, deep, call, ["ask", deep])
+            self.assertFalse(deep in deeds)
+            self.different(deeds, deep)
+
+    def check_runs_and_questions(self):
+        system, ask, rest = System([door(), guard()]), ("ask", (0, None)), ("rest", (None, 1))
+        for deep in deep_values() + [nested(kind, 500) for kind in (list, tuple, dict)]:
+            at = 0 if isinstance(deep, tuple) else -1
+            for call in (end_of, words_of, done_in, fair_run, lambda one, run: list(passed(one, run))):
+                self.check_error(BadRun, at, call, system, deep)
+                self.check_error(BadRun, 1, call, system, (ask, ("rest", (deep, 1))))
+            self.check_error(BadRun, at, is_fair, system, (), deep)
+            self.check_error(BadRun, 1, is_fair, system, (rest,), (deep,))
+            for thing in [deep, (deep, deep), ([deep], {}), ([((0, 0), deep)], {}), ([((0, 0), ())], {((0, 0), ()): deep}),
+                          ((deep,), ()), ((("ask", deep),), ()), ((), (deep,))]:
+                self.assertIs(is_table(system, thing, wanted=[]), False)
+                self.assertIs(is_lasso(system, thing, wanted=[]), False)
+            for call in (reveals, table, lasso):
+                self.check_error(BadWords, deep, call, system, seen=[deep], wanted=deep)
+                self.check_error(BadWords, deep, call, system, wanted=["ask", deep])
+
     def test_errors_of_deep_values(self):
         self.check_everywhere()
+        self.check_deeds()
+        self.check_runs_and_questions()
 
     def test_errors_of_deep_values_in_little_room(self):
-        self.check_in_little_room(self.check_everywhere)
+        for check in (self.check_everywhere, self.check_deeds, self.check_runs_and_questions):
+            self.check_in_little_room(check)
 
 
 class Again(unittest.TestCase):
