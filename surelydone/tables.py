@@ -29,9 +29,14 @@ def ways_within(ways, part):
 def left_out(system, inside):
     """Return a diligent hand that waits at all places of a part, or None if there is none."""
     for hand in system.diligent:
-        if all([waits_at(system, inside, marked, hand) for marked in inside]):
+        if waits_in(system, inside, hand):
             return hand
     return None
+
+
+def waits_in(system, inside, hand):
+    """Tell whether a hand waits at all places of a part."""
+    return all([waits_at(system, inside, marked, hand) for marked in inside])
 
 
 def waits_at(system, inside, marked, hand):

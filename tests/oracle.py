@@ -1,4 +1,4 @@
-"""What the document says of moves, runs and questions, done once more in the plainest way.
+"""What the document says of moves, runs, questions and done sets, done once more in the plainest way.
 
 It reads the hands, the diligent hands and the start of a system, and uses nothing else of the program.
 """
@@ -146,3 +146,51 @@ def keeps_lasso(system, thing, seen, wanted):
         return False
     words = [move[0] for move in stem + loop]
     return set(seen) <= {move[0] for move in stem} and not set(wanted) & set(words)
+
+
+def pairs(system, first=None):
+    """The pairs to which one comes from a pair, or from the start, each with its ways."""
+    ways, ahead = {}, [first or (system.start, frozenset())]
+    while ahead:
+        pair = ahead.pop()
+        if pair not in ways:
+            states, words = pair
+            moves = moves_at(system, states)
+            ways[pair] = [(move, (behind(system, states, move), words | {move[0]})) for move in moves]
+            ahead.extend(after for _, after in ways[pair])
+    return ways
+
+
+def done_words(system, first=None):
+    """Point 25: the words of each pair at which a fair run can stay, by length, then ascending."""
+    ways = pairs(system, first)
+    found = {tuple(sorted(pair[1])) for pair in ways if can_stay(system, ways, pair)}
+    return sorted(found, key=lambda words: (len(words), words))
+
+
+def behind_run(system, run):
+    """The pair to which a run leads."""
+    return walk(system, run)[-1], frozenset(move[0] for move in run)
+
+
+def holds(sets, seen, wanted):
+    """Point 25: the answer of a question by the done sets."""
+    return all(set(words) & set(wanted) for words in sets if set(seen) <= set(words))
+
+
+def subsets(items):
+    """All subsets of a row, by length, then ascending."""
+    items = sorted(set(items))
+    return [part for many in range(len(items) + 1) for part in itertools.combinations(items, many)]
+
+
+def least(items, is_yes):
+    """Point 30: the subsets that make the answer yes, while none of their proper subsets does."""
+    yes = [set(part) for part in subsets(items) if is_yes(part)]
+    return [part for part in subsets(items) if set(part) in yes and not any(less < set(part) for less in yes)]
+
+
+def greatest_short(items, is_yes):
+    """Point 32: the subsets with a no, while each set that has all their items and more gives a yes."""
+    no = [set(part) for part in subsets(items) if not is_yes(part)]
+    return sorted(part for part in subsets(items) if set(part) in no and not any(set(part) < more for more in no))

@@ -72,6 +72,26 @@ def widest(diligent=None):
     return System([ring_of(word, 8) for word in "abcd"], diligent)
 
 
+def pairs_1000(diligent=None):
+    """Rings of 7 and 4 states have 8 and 5 pairs each, so there are 8 * 5 * 5 * 5 pairs."""
+    return System([ring_of("a", 7), ring_of("b", 4), ring_of("c", 4), ring_of("d", 4)], diligent)
+
+
+def pairs_1001(diligent=None):
+    """A ring has a pair for each step until all its words are done, and for each state then: 7 * 11 * 13 pairs."""
+    return System([Hand.ring(list(words)) for words in ("abcc", "deffffff", "ghijkkkk")], diligent)
+
+
+def never(diligent=None):
+    """No run does anything: the two hands never agree on a word."""
+    return System([Hand(0, [(0, "a", 0), (1, "b", 0)]), Hand(0, [(0, "b", 0), (1, "a", 0)])], diligent)
+
+
+def either(diligent=None):
+    """One of two words is done, once, beside a word that may be done at any time."""
+    return System([Hand(0, [(0, "left", 1), (0, "right", 2)]), Hand.ring(["wave"])], diligent)
+
+
 class Draw:
     """Numbers that look thrown and are the same each time, on every Python."""
 
@@ -126,3 +146,12 @@ def drawn_run(system, draw, many):
         run.append(draw.of(moves))
         states = system.behind(states, run[-1])
     return tuple(run)
+
+
+def short_runs(system, most):
+    """All runs of at most so many moves from the start of a small system."""
+    found = [((), system.start)]
+    for run, states in found:
+        if len(run) < most:
+            found.extend((run + (move,), system.behind(states, move)) for move in system.moves(states))
+    return [run for run, _ in found]

@@ -130,6 +130,99 @@ True
 >>> thing = ((("ask", (0, None)),), (("rest", (None, 1)),))
 >>> is_lasso(lazy, thing, seen=["ask"], wanted=["open"])
 True
+
+>>> from surelydone.hands import Hand
+>>> from surelydone.systems import System
+>>> door = Hand(0, [(0, "ask", 1), (1, "open", 0)])
+>>> guard = Hand(0, [(0, "open", 0), (0, "rest", 0)])
+>>> from surelydone.families import done_sets
+>>> both = System([door, guard])
+>>> done_sets(both)
+[('ask', 'open'), ('ask', 'open', 'rest')]
+
+>>> from surelydone.hands import Hand
+>>> from surelydone.systems import System
+>>> door = Hand(0, [(0, "ask", 1), (1, "open", 0)])
+>>> guard = Hand(0, [(0, "open", 0), (0, "rest", 0)])
+>>> from surelydone.families import done_sets
+>>> lazy = System([door, guard], [1])
+>>> done_sets(lazy)
+[('rest',), ('ask', 'open'), ('ask', 'rest'), ('ask', 'open', 'rest')]
+
+>>> from surelydone.hands import Hand
+>>> from surelydone.systems import System
+>>> door = Hand(0, [(0, "ask", 1), (1, "open", 0)])
+>>> guard = Hand(0, [(0, "open", 0), (0, "rest", 0)])
+>>> from surelydone.families import future
+>>> lazy = System([door, guard], [1])
+>>> future(lazy, (("ask", (0, None)),))
+(['ask'], ['open', 'rest'], [])
+
+>>> from surelydone.hands import Hand
+>>> from surelydone.systems import System
+>>> door = Hand(0, [(0, "ask", 1), (1, "open", 0)])
+>>> guard = Hand(0, [(0, "open", 0), (0, "rest", 0)])
+>>> from surelydone.families import order, together
+>>> both = System([door, guard])
+>>> [together(both), order(both)]
+[[('ask', 'open'), ('rest',)], [(1, 0)]]
+
+>>> from surelydone.hands import Hand
+>>> from surelydone.systems import System
+>>> door = Hand(0, [(0, "ask", 1), (1, "open", 0)])
+>>> guard = Hand(0, [(0, "open", 0), (0, "rest", 0)])
+>>> from surelydone.least import least_seen
+>>> lazy = System([door, guard], [1])
+>>> least_seen(lazy, among=["ask", "open", "rest"], wanted=["ask"])
+[('ask',), ('open',)]
+
+>>> from surelydone.hands import Hand
+>>> from surelydone.systems import System
+>>> door = Hand(0, [(0, "ask", 1), (1, "open", 0)])
+>>> guard = Hand(0, [(0, "open", 0), (0, "rest", 0)])
+>>> from surelydone.least import least_wanted
+>>> lazy = System([door, guard], [1])
+>>> least_wanted(lazy, seen=["ask"], among=["open", "rest"])
+[('open', 'rest')]
+
+>>> from surelydone.hands import Hand
+>>> from surelydone.systems import System
+>>> door = Hand(0, [(0, "ask", 1), (1, "open", 0)])
+>>> guard = Hand(0, [(0, "open", 0), (0, "rest", 0)])
+>>> from surelydone.least import least_diligent
+>>> lazy = System([door, guard], [1])
+>>> least_diligent(lazy, seen=["ask"], wanted=["open"])
+[(0,)]
+
+>>> from surelydone.hands import Hand
+>>> from surelydone.systems import System
+>>> door = Hand(0, [(0, "ask", 1), (1, "open", 0)])
+>>> guard = Hand(0, [(0, "open", 0), (0, "rest", 0)])
+>>> from surelydone.alike import parting
+>>> both = System([door, guard])
+>>> lazy = System([door, guard], [1])
+>>> parting(both, lazy)
+(('rest',), ('ask', 'open'))
+
+>>> from surelydone.hands import Hand
+>>> from surelydone.systems import System
+>>> door = Hand(0, [(0, "ask", 1), (1, "open", 0)])
+>>> guard = Hand(0, [(0, "open", 0), (0, "rest", 0)])
+>>> from surelydone.desk import Desk
+>>> both = System([door, guard])
+>>> desk = Desk(both)
+>>> desk.choose([1])
+>>> desk.reveals(seen=["ask"], wanted=["open"])
+False
+
+>>> from surelydone.hands import Hand
+>>> from surelydone.systems import System
+>>> door = Hand(0, [(0, "ask", 1), (1, "open", 0)])
+>>> guard = Hand(0, [(0, "open", 0), (0, "rest", 0)])
+>>> from surelydone.desk import Desk
+>>> both = System([door, guard])
+>>> Desk(both).undo()
+raises NothingDone
 '''
 
 
@@ -148,7 +241,7 @@ def told_by(session):
 class Examples(unittest.TestCase):
     def test_sessions(self):
         sessions = re.split(r"\n\n", SESSIONS.strip())
-        self.assertEqual(len(sessions), 16)
+        self.assertEqual(len(sessions), 26)
         for session in sessions:
             expected = session.splitlines()[-1]
             with self.subTest(session):

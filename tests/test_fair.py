@@ -9,18 +9,11 @@ from surelydone.runs import end_of, fair_run, is_fair, passed
 from surelydone.systems import System, standings
 from tests.helpers import Checks, deep_values, door, guard, nested, other_values, rows_that_are_wrong_items
 from tests.oracle import fair, moves_at, walk
-from tests.samples import Draw, both, crowd, drawn_run, drawn_systems, lazy, ring_of, shapes, stuck, widest
+from tests.samples import (
+    Draw, both, crowd, drawn_run, drawn_systems, lazy, ring_of, shapes, short_runs, stuck, widest,
+)
 
 ASK, OPEN, REST = ("ask", (0, None)), ("open", (1, 0)), ("rest", (None, 1))
-
-
-def loops_of(system, most):
-    """All runs of at most so many moves from the start of a small system."""
-    found = [()]
-    for run in found:
-        if len(run) < most:
-            found.extend(run + (move,) for move in system.moves(end_of(system, run)))
-    return found
 
 
 class FairEnds(Checks):
@@ -123,7 +116,7 @@ class FairLoops(Checks):
         for system in systems:
             for chosen in (None, [], [0], system.diligent):
                 now = system.with_diligent(chosen)
-                for run in loops_of(now, 3)[:60]:
+                for run in short_runs(now, 3)[:60]:
                     for at in range(len(run) + 1):
                         self.assertIs(is_fair(now, run[:at], run[at:]), fair(now, run[:at], run[at:]))
 

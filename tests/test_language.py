@@ -18,6 +18,7 @@ ALLOWED_BUILTINS = set("""
 
 SIGNS = """
     __add__ __radd__ __iadd__ __sub__ __rsub__ __isub__ __and__ __rand__ __iand__ __or__ __ror__ __ior__ __contains__
+    __getitem__
 """.split()
 
 BUILTIN_METHODS = set("""
@@ -49,7 +50,15 @@ INTERFACE = {
                 Deeds.__len__ Deeds.__bool__ Deeds.names Deeds.within""",
     "runs": "end_of words_of done_in passed is_fair fair_run",
     "reveals": "reveals table is_table lasso is_lasso",
+    "families": "done_sets always possible revealed future together order",
+    "least": "least_seen least_wanted least_diligent against",
+    "alike": "alike parting",
+    "desk": """Desk Desk.__init__ Desk.__getitem__ Desk.__setitem__ Desk.system Desk.reveals Desk.choose Desk.undo
+               Desk.trying""",
 }
+
+# What may iterate over range, zip and the like on the spot, as a first argument.
+ITERATING = "list tuple dict sorted sum any all enumerate zip min max".split()
 
 
 def files():
@@ -119,6 +128,7 @@ class Language(unittest.TestCase):
         for file, node in nodes(ast.FunctionDef):
             if node.name in SIGNS:
                 self.assertEqual(len(node.args.args), 2, f"{file} {node.name}")
+                self.assertEqual((node.args.vararg, node.args.kwarg), (None, None), f"{file} {node.name}")
                 self.assertEqual((node.args.defaults, node.args.kwonlyargs), ([], []), f"{file} {node.name}")
             if node.name in SIGNS and not node.name.startswith("__i"):
                 self.assertEqual(inside((ast.Assign, ast.AugAssign, ast.Delete), node)[1:], [], node.name)
@@ -126,6 +136,38 @@ class Language(unittest.TestCase):
                     self.assertIsInstance(part.targets[0], ast.Name, node.name)
                 for part in inside(ast.Attribute, node):
                     self.assertNotIn(part.attr, CHANGING_METHODS, node.name)
+
+    def test_l4_l5_decorators(self):
+        for file, node in nodes((ast.FunctionDef, ast.ClassDef)):
+            for part in node.decorator_list:
+                self.assertIsInstance(part, ast.Name, file)
+                self.assertIn(part.id, ("property", "classmethod", "staticmethod"), file)
+
+    def test_l5_items(self):
+        found = {node.name: node for _, node in nodes(ast.FunctionDef) if node.name in ("__setitem__", "__iter__")}
+        self.assertEqual([part.arg for part in found["__setitem__"].args.args], ["self", "at", "worth"])
+        for file, node in nodes(ast.ClassDef):
+            told = [part for part in node.body if isinstance(part, ast.FunctionDef)]
+            names = [part.name for part in told]
+            self.assertIn("__iter__" in names, (False, "__getitem__" in names), file)
+            self.assertIn("__getitem__" in names, (False, "__iter__" in names), file)
+        (row,) = found["__iter__"].body
+        self.assertIsInstance(row, ast.Raise)
+        self.assertEqual((row.exc.func.id, [type(part) for part in row.exc.args]), ("TypeError", [ast.Constant]))
+
+    def test_l5_properties_change_nothing(self):
+        for file, node in nodes(ast.FunctionDef):
+            if any(part.id == "property" for part in node.decorator_list):
+                self.assertEqual([part.arg for part in node.args.args], ["self"], file)
+                self.assertEqual(inside((ast.Assign, ast.AugAssign, ast.Delete, ast.Call), node), [], file)
+
+    def test_l6_finally(self):
+        for file, node in nodes(ast.Try):
+            for row in node.finalbody:
+                self.assertIsInstance(row, ast.Assign, file)
+                self.assertIsInstance(row.value, (ast.Name, ast.Attribute), file)
+                self.assertIsInstance(row.targets[0], (ast.Name, ast.Attribute), file)
+                self.assertEqual(len(row.targets), 1, file)
 
     def test_l5_l24_no_signed_assignment_of_more_than_numbers(self):
         for file, node in nodes(ast.AugAssign):
@@ -216,8 +258,23 @@ class Language(unittest.TestCase):
             self.assertIn(node.type.id, INTERFACE["errors"].split(), file)
 
     def test_l22_keywords_of_calls(self):
+        own = {node.name: [part.arg for part in node.args.args + node.args.kwonlyargs]
+               for _, tree in trees() for node in tree.body if isinstance(node, ast.FunctionDef)}
+        own["sorted"] = ["key", "reverse"]
         for file, node in nodes(ast.Call):
-            self.assertEqual([word.arg for word in node.keywords], [], file)
+            for word in node.keywords:
+                self.assertIsInstance(node.func, ast.Name, file)
+                self.assertIn(word.arg, own[node.func.id], file)
+
+    def test_l23_iterated_at_once(self):
+        placed = [node.iter for _, node in nodes((ast.For, ast.comprehension))]
+        placed += [node.args[0] for _, node in nodes(ast.Call)
+                   if isinstance(node.func, ast.Name) and node.func.id in ITERATING and node.args]
+        for file, node in nodes(ast.Call):
+            if isinstance(node.func, ast.Name) and node.func.id in ("range", "zip", "enumerate", "reversed"):
+                self.assertIn(node, placed, f"{file} {ast.unparse(node)}")
+            if isinstance(node.func, ast.Attribute) and node.func.attr in ("items", "keys", "values"):
+                self.assertIn(node, placed, f"{file} {ast.unparse(node)}")
 
     def test_l23_a_generator_is_not_a_value(self):
         found = generators()

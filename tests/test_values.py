@@ -4,9 +4,12 @@ import sys
 import unittest
 
 from surelydone.deeds import Deeds
+from surelydone.desk import Desk
 from surelydone.errors import BadDiligent, BadMove, BadRun, BadState, BadStates, BadSteps, BadWords
+from surelydone.families import future, revealed
 from surelydone.hands import Hand
 from surelydone.kinds import is_name, is_row, is_state, is_whole
+from surelydone.least import against, least_diligent, least_seen, least_wanted
 from surelydone.reveals import is_lasso, is_table, lasso, reveals, table
 from surelydone.runs import done_in, end_of, fair_run, is_fair, passed, words_of
 from surelydone.systems import System, standings
@@ -101,13 +104,37 @@ class Deep(Checks):
                 self.check_error(BadWords, deep, call, system, seen=[deep], wanted=deep)
                 self.check_error(BadWords, deep, call, system, wanted=["ask", deep])
 
+    def check_families_and_desk(self):
+        system, desk = System([door(), guard()]), Desk(System([door(), guard()]))
+        for deep in deep_values() + [nested(kind, 500) for kind in (list, tuple, dict)]:
+            self.check_error(BadWords, deep, revealed, system, ["ask", deep])
+            self.check_error(BadRun, 0 if isinstance(deep, tuple) else -1, future, system, deep)
+            self.check_error(BadRun, 1, future, system, (("ask", (0, None)), ("rest", (deep, 1))))
+            self.check_error(BadWords, deep, least_seen, system, among=[deep], wanted=deep)
+            self.check_error(BadWords, deep, least_seen, system, among=[], wanted=[deep])
+            self.check_error(BadWords, deep, least_wanted, system, seen=[deep], among=deep)
+            self.check_error(BadWords, deep, least_wanted, system, among=[deep])
+            for call in (least_diligent, against):
+                self.check_error(BadWords, deep, call, system, seen=[deep], wanted=deep)
+                self.check_error(BadWords, deep, call, system, wanted=[deep])
+            self.check_error(BadDiligent, deep, lambda: desk[deep])
+            self.check_error(BadDiligent, deep, desk.choose, [deep])
+            self.check_error(BadWords, deep, desk.reveals, wanted=[deep])
+            with self.assertRaises(BadDiligent):
+                desk[deep] = deep
+            with self.assertRaises(BadDiligent):
+                desk[0] = deep
+            self.assertIs(desk.trying(lambda one: deep), deep)
+
+    def checks(self):
+        return [self.check_everywhere, self.check_deeds, self.check_runs_and_questions, self.check_families_and_desk]
+
     def test_errors_of_deep_values(self):
-        self.check_everywhere()
-        self.check_deeds()
-        self.check_runs_and_questions()
+        for check in self.checks():
+            check()
 
     def test_errors_of_deep_values_in_little_room(self):
-        for check in (self.check_everywhere, self.check_deeds, self.check_runs_and_questions):
+        for check in self.checks():
             self.check_in_little_room(check)
 
 
